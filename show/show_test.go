@@ -2,6 +2,7 @@ package show
 
 import (
 	"math"
+	"slices"
 	"strings"
 	"testing"
 
@@ -185,11 +186,18 @@ func TestNone(t *testing.T) {
 	}
 }
 
-// P15.1: just literals are written by what a writer has for them.
-func TestLiteralField(t *testing.T) {
-	w := writer{literal: func(api.Value) string { return "?" }}
-	w.query(read(t, "SELECT a, COUNT(*) FROM t WHERE TRUE AND a = 5 AND b IN ('x', NULL) AND NOT (TRUE = FALSE OR a < b) AND FALSE GROUP BY a LIMIT 7"))
-	if got := w.String(); got != "SELECT a, COUNT(*) FROM t WHERE TRUE AND a = ? AND b IN (?, ?) AND NOT (? = ? OR a < b) AND FALSE GROUP BY a LIMIT 7" {
-		t.Errorf("with ? for each literal: %s", got)
+// P15.1: just a predicate's literals are written as With is told, once each, in the order of the text.
+func TestWith(t *testing.T) {
+	q := read(t, "SELECT a, COUNT(*) FROM t WHERE TRUE AND a = 5 AND b IN ('x', NULL) AND NOT (TRUE = FALSE OR a < b) AND a IS NULL AND FALSE GROUP BY a LIMIT 7")
+	var came []api.Value
+	got := With(q, func(v api.Value) string {
+		came = append(came, v)
+		return strings.Repeat("?", len(came))
+	})
+	if got != "SELECT a, COUNT(*) FROM t WHERE TRUE AND a = ? AND b IN (??, ???) AND NOT (???? = ????? OR a < b) AND a IS NULL AND FALSE GROUP BY a LIMIT 7" {
+		t.Errorf("With: %s", got)
+	}
+	if want := []api.Value{num(5), text("x"), {}, {Kind: api.Bool, Num: 1}, {Kind: api.Bool}}; !slices.Equal(came, want) {
+		t.Errorf("With was asked for %v, want %v", came, want)
 	}
 }
